@@ -1,0 +1,1 @@
+"""Swapstops: a machine that changes places and goes on."""

@@ -1,0 +1,66 @@
+"""Where things stand in the package, and those rules of its language that are easily seen."""
+
+import ast
+import importlib
+import pathlib
+import unittest
+
+PACKAGE = pathlib.Path(__file__).resolve().parent.parent / "swapstops"
+
+INTERFACE = {
+    "errors": [
+        "SwapError", "Unfit", "BadText", "Apart", "Barred", "NoWay", "BadNet", "BadStanding",
+        "TooManyEdits", "NothingToUndo", "NothingToRedo", "NoVersion", "BadLog",
+    ],
+    "nets": ["net_error"],
+}
+
+
+def sources():
+    return [path for path in sorted(PACKAGE.rglob("*")) if "__pycache__" not in path.parts]
+
+
+class InterfaceTest(unittest.TestCase):
+
+    def test_each_is_defined_in_its_file(self):
+        for module, names in INTERFACE.items():
+            tree = ast.parse((PACKAGE / f"{module}.py").read_text(encoding="utf-8"))
+            defined = [node.name for node in tree.body if isinstance(node, (ast.FunctionDef, ast.ClassDef))]
+            loaded = importlib.import_module(f"swapstops.{module}")
+            for name in names:
+                with self.subTest(module=module, name=name):
+                    self.assertIn(name, defined)
+                    self.assertEqual(getattr(loaded, name).__module__, f"swapstops.{module}")
+
+
+class RulesTest(unittest.TestCase):
+
+    def test_only_sources(self):
+        self.assertIn(PACKAGE / "__init__.py", sources())
+        for path in sources():
+            self.assertEqual(path.suffix, ".py", path)
+
+    def test_characters_and_sizes(self):
+        for path in sources():
+            text = path.read_bytes()
+            self.assertTrue(all(sign == 10 or 32 <= sign <= 126 for sign in text), path)
+            lines = text.decode("ascii").split("\n")
+            self.assertLess(len(lines), 400, path)
+            self.assertLessEqual(max(len(line) for line in lines), 120, path)
+
+    def test_functions_are_small(self):
+        for path in sources():
+            for node in ast.walk(ast.parse(path.read_text(encoding="ascii"))):
+                if isinstance(node, ast.FunctionDef):
+                    self.assertLessEqual(node.end_lineno - node.lineno + 1, 40, (path, node.name))
+
+    def test_imports_are_from_the_package_or_the_named_library(self):
+        library = ("heapq", "math", "itertools", "collections")
+        for path in sources():
+            tree = ast.parse(path.read_text(encoding="ascii"))
+            for node in ast.walk(tree):
+                self.assertNotIsInstance(node, ast.Import, path)
+                if isinstance(node, ast.ImportFrom):
+                    self.assertIn(node, tree.body, path)
+                    self.assertEqual(node.level, 0, path)
+                    self.assertTrue(node.module in library or node.module.startswith("swapstops."), path)
