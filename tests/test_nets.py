@@ -1,25 +1,9 @@
-import doctest
 import itertools
-import unittest
 
 from swapstops.nets import net_error
-from tests.samples import any_values, integers, no_numbers, picture
-
-# Word for word as the document gives them.
-EXAMPLES = """
-    >>> from swapstops.nets import net_error
-    >>> ring, lane, two = (3, ((0, 1), (1, 2), (2, 0))), (4, ((0, 1), (1, 2))), (2, ((0, 1), (1, 0)))
-    >>> [net_error(value) for value in (ring, lane, two, (1, ()), (12, ()), (0, ()), (13, ()), (True, ()), (3, [(0, 1)]), [3, ()])]
-    [None, None, None, None, None, 'form', 'form', 'form', 'form', 'form']
-    >>> [net_error((3, arrows)) for arrows in (((0, 1), (1, 1)), ((0, 3),), ((0, 1), [1, 2]), ((0, 1, 2),), ((0, True),), ((-1, 0),))]
-    [('arrow', 1), ('arrow', 0), ('arrow', 1), ('arrow', 0), ('arrow', 0), ('arrow', 0)]
-    >>> [net_error((3, arrows)) for arrows in (((1, 2), (0, 1)), ((0, 1), (0, 1)), ((0, 2), (0, 1), (2, 2)))]
-    [('order', 1), ('order', 1), ('arrow', 2)]
-"""
-
-
-def arrows_of(n):
-    return tuple(itertools.permutations(range(n), 2))
+from tests.calls import CallCase
+from tests.drawn import arrows_of
+from tests.samples import any_values, integers, no_numbers
 
 
 def wrong_arrows(n):
@@ -45,23 +29,10 @@ def model_of_items(n, arrows):
     return ("order", falls[0]) if falls else None
 
 
-class NetErrorCase(unittest.TestCase):
+class NetErrorCase(CallCase):
 
     def assert_tells(self, value, told):
-        before = picture(value)
-        for _ in range(2):
-            self.assertEqual(picture(net_error(value)), picture(told), value)
-        self.assertEqual(picture(net_error(value=value)), picture(told), value)
-        self.assertEqual(picture(value), before)
-
-
-class ExamplesTest(unittest.TestCase):
-
-    def test_examples_of_the_document(self):
-        examples = doctest.DocTestParser().get_doctest(EXAMPLES, {}, "net_error", None, 0)
-        said = []
-        result = doctest.DocTestRunner(verbose=False).run(examples, out=said.append)
-        self.assertEqual((result.failed, result.attempted), (0, 5), "".join(said))
+        super().assert_tells(told, net_error, value=value)
 
 
 class NetsTest(NetErrorCase):

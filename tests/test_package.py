@@ -2,6 +2,7 @@
 
 import ast
 import importlib
+import inspect
 import pathlib
 import unittest
 
@@ -13,6 +14,37 @@ INTERFACE = {
         "TooManyEdits", "NothingToUndo", "NothingToRedo", "NoVersion", "BadLog",
     ],
     "nets": ["net_error"],
+    "nettexts": ["net_text", "read_net"],
+    "standings": ["standing_error", "standing_number", "standing_at"],
+    "runs": ["run_error", "done", "goes", "turns"],
+    "journeys": ["journey_error", "journey_done", "steps_of"],
+    "lots": ["lots", "onward", "beat", "colours"],
+    "kinds": ["kind_of"],
+    "names": ["names", "names_hold", "ratio"],
+}
+
+ARGUMENTS = {
+    "net_error": ["value"],
+    "net_text": ["net"],
+    "read_net": ["value"],
+    "standing_error": ["n", "value"],
+    "standing_number": ["n", "standing"],
+    "standing_at": ["n", "value"],
+    "run_error": ["net", "value"],
+    "done": ["standing", "run"],
+    "goes": ["n", "run"],
+    "turns": ["n", "run"],
+    "journey_error": ["net", "value"],
+    "journey_done": ["standing", "journey"],
+    "steps_of": ["journey"],
+    "lots": ["net"],
+    "onward": ["net"],
+    "beat": ["net", "stop"],
+    "colours": ["net"],
+    "kind_of": ["net"],
+    "names": ["net"],
+    "names_hold": ["net", "value"],
+    "ratio": ["net", "standing", "things"],
 }
 
 
@@ -31,6 +63,18 @@ class InterfaceTest(unittest.TestCase):
                 with self.subTest(module=module, name=name):
                     self.assertIn(name, defined)
                     self.assertEqual(getattr(loaded, name).__module__, f"swapstops.{module}")
+
+    def test_arguments(self):
+        for module, names in INTERFACE.items():
+            loaded = importlib.import_module(f"swapstops.{module}")
+            for name in names:
+                if module == "errors":
+                    continue
+                with self.subTest(module=module, name=name):
+                    arguments = inspect.signature(getattr(loaded, name)).parameters.values()
+                    self.assertEqual([argument.name for argument in arguments], ARGUMENTS[name])
+                    self.assertEqual({argument.kind.name for argument in arguments}, {"POSITIONAL_OR_KEYWORD"})
+                    self.assertEqual({argument.default for argument in arguments}, {inspect.Parameter.empty})
 
 
 class RulesTest(unittest.TestCase):
