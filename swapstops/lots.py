@@ -7,13 +7,10 @@ from swapstops.errors import Apart, Unfit
 
 def lots(net):
     """Return the ascending tuple of all lots of net."""
-    n = net[0]
-    reach = [fewest_from(net, stop) for stop in range(n)]
     found = []
-    for stop in range(n):
-        lot = [other for other in range(n) if other in reach[stop] and stop in reach[other]]
-        if lot[0] == stop:
-            found.append(tuple(lot))
+    for stop in range(net[0]):
+        if not any([stop in lot for lot in found]):
+            found.append(lot_of(net, stop))
     return tuple(found)
 
 
@@ -29,7 +26,7 @@ def onward(net):
 
 def beat(net, stop):
     """Return what divides the numbers of steps of all rounds that begin at stop, and is greatest."""
-    own = [lot for lot in lots(net) if stop in lot][0]
+    own = lot_of(net, stop)
     fewest = fewest_from(net, stop)
     # Along an arrow the fewest steps grow by one, but for a slip. Round by round
     # the slips add up to the number of steps, and each slip is a multiple of the
@@ -53,21 +50,43 @@ def colours(net):
 
 def is_joined(net):
     """Return whether all stops of net are one lot."""
-    return len(lots(net)) == 1
+    return len(lot_of(net, 0)) == net[0]
+
+
+def lot_of(net, stop):
+    """Return the lot of net in which stop is."""
+    n, arrows = net
+    onto = fewest_from(net, stop)
+    back = fewest_from((n, tuple([(w, v) for v, w in arrows])), stop)
+    return tuple([other for other in range(n) if other in onto and other in back])
+
+
+def lot_net(net, lot):
+    """Return the net of the stops of lot by themselves, each called by its spot in lot."""
+    inner = [(lot.index(v), lot.index(w)) for v, w in net[1] if v in lot and w in lot]
+    return (len(lot), tuple(inner))
 
 
 def fewest_from(net, stop):
     """Return a dict with each stop to which stop comes, and the fewest steps to it."""
     ahead = leads(net)
-    fewest = {stop: 0}
-    front = [stop]
+    return spread(stop, lambda v: ahead[v])
+
+
+def spread(first, onward_from):
+    """Return a dict with all to which first comes, and the fewest steps to each of it.
+
+    onward_from returns the list of those to which a step leads from the one that it is passed.
+    """
+    fewest = {first: 0}
+    front = [first]
     while front:
         beyond = []
-        for v in front:
-            for w in ahead[v]:
-                if w not in fewest:
-                    fewest[w] = fewest[v] + 1
-                    beyond.append(w)
+        for one in front:
+            for other in onward_from(one):
+                if other not in fewest:
+                    fewest[other] = fewest[one] + 1
+                    beyond.append(other)
         front = beyond
     return fewest
 

@@ -29,7 +29,11 @@ def names_hold(net, value):
 
 def ratio(net, standing, things):
     """Return the ratio of four things of standing; Apart() and Unfit() as names."""
-    table = names(net)
+    return ratio_by(names(net), standing, things)
+
+
+def ratio_by(table, standing, things):
+    """Return the ratio of four things of standing, by the right names of table."""
     row, stop = standing
     x, y, z, t = [table[stop][row.index(thing)] for thing in things]
     return ratio_of(x, y, z, t)

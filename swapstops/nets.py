@@ -38,3 +38,15 @@ def is_arrow(n, value):
         return False
     v, w = value
     return is_stop(n, v) and is_stop(n, w) and v != w
+
+
+def with_arrow(net, arrow):
+    """Return net with an arrow more."""
+    n, arrows = net
+    return (n, tuple(sorted([*arrows, arrow])))
+
+
+def without_arrow(net, arrow):
+    """Return net without one of its arrows."""
+    n, arrows = net
+    return (n, tuple([other for other in arrows if other != arrow]))

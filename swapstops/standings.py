@@ -64,3 +64,9 @@ def row_at(many, number):
         spot, number = divmod(number, factorial(len(left) - 1))
         row.append(left.pop(spot))
     return tuple(row)
+
+
+def is_odd(row):
+    """Return whether an odd number of exchanges of two things makes row ascend."""
+    falls = [thing for place, thing in enumerate(row) for other in row[place:] if other < thing]
+    return len(falls) % 2 == 1

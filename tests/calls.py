@@ -33,6 +33,9 @@ class CallCase(unittest.TestCase):
         self.assertEqual(picture(found), picture(told), (function.__name__, given))
 
     def assert_error(self, kind, function, **given):
+        self.assert_error_with({}, kind, function, **given)
+
+    def assert_error_with(self, fields, kind, function, **given):
         found = self.outcome_all_ways(function, given)
         self.assertIs(type(found), kind, (function.__name__, given))
-        self.assertEqual(vars(found), {})
+        self.assertEqual(picture(vars(found)), picture(fields), (function.__name__, given))

@@ -3,6 +3,8 @@
 import itertools
 import random
 
+from swapstops.runs import done
+
 
 def arrows_of(n):
     """All arrows that a net of n stops can have, ascending."""
@@ -98,3 +100,45 @@ def all_runs(net, steps):
     for _ in range(steps + 1):
         yield from runs
         runs = [run + (w,) for run in runs for v, w in net[1] if v == run[-1]]
+
+
+def loose_nets():
+    """Nets of 2 to 12 stops that are not joined."""
+    for n in range(2, 13):
+        yield (n, ())
+        yield (n, ((0, 1),))
+        yield (n, ring(n)[1][1:])
+        yield (n, tuple((v, w) for v, w in arrows_of(n) if v < w))
+        yield (n, tuple((v, w) for v, w in arrows_of(n) if w != n - 1))
+
+
+def parted(n, shades):
+    """The net with all arrows between stops of unlike colours."""
+    return net_of(n, [(v, w) for v, w in arrows_of(n) if shades[v] != shades[w]])
+
+
+def drawn_halves(seed, each=3):
+    """Drawn joined nets of 3 to 12 stops, no rings, each arrow of which leads from one colour to the other one."""
+    draw = random.Random(seed)
+    for n in range(3, 13):
+        for spot in range(each):
+            shades = [0, 1] + [draw.randint(0, 1) for _ in range(n - 2)]
+            pairs = [(v, draw.choice([w for w in range(v) if shades[w] != shades[v]])) for v in range(2, n)]
+            arrows = both_ways(n, [(0, 1)] + pairs)[1]
+            if spot == 0 and n > 3:
+                shades = [stop % 2 for stop in range(n)]
+                arrows = ring(n - n % 2)[1] + ((n - 2, n - 1), (n - 1, n - 2))
+            more = [arrow for arrow in parted(n, shades)[1] if draw.randrange(5) == 0]
+            yield called(net_of(n, arrows + tuple(more)), draw.sample(range(n), n))
+
+
+def exchanged(standing, first, second):
+    """The standing with the things at two places exchanged."""
+    row = list(standing[0])
+    row[first], row[second] = row[second], row[first]
+    return (tuple(row), standing[1])
+
+
+def drawn_to(draw, net, one, steps=40):
+    """A standing to which one comes by a drawn run."""
+    return done(one, drawn_run(draw, net, one[1], steps))

@@ -95,6 +95,145 @@ raises Apart()
 (4, 2, 3, 2, 3)
 >>> names(tri)
 raises Unfit()
+
+>>> from swapstops.coming import bar, bar_holds, comes
+>>> ring, line, full = (3, ((0, 1), (1, 2), (2, 0))), (3, ((0, 1), (1, 0), (1, 2), (2, 1))), (3, ((0, 1), (1, 0), (1, 2), (2, 0)))
+>>> first = ((0, 1, 2, 3), 0)
+>>> [comes(net, first, ((3, 1, 2, 0), 1)) for net in (ring, line, full)], [comes(net, first, ((0, 1, 2, 3), 1)) for net in (ring, line, full)]
+([True, True, True], [False, False, True])
+>>> [comes(net, first, ((1, 0, 2, 3), 1)) for net in (ring, line, full)], comes(ring, first, ((3, 0, 1, 2), 0)), bar(line, first, first), bar(line, first, ((1, 0, 2, 3), 0))
+([False, True, True], True, None, ('sign',))
+>>> [bar_holds(ring, first, ((0, 1, 2, 3), 1), value) for value in (("next", 3), ("next", 0), ("next", 1), ("next", True), ("sign",), ["next", 3])]
+[True, True, False, False, False, False]
+>>> lone = (1, ())
+>>> comes(lone, ((0, 1), 0), ((0, 1), 0)), bar(lone, ((0, 1), 0), ((1, 0), 0))
+(True, ('still',))
+>>> five = (5, ((0, 1), (0, 3), (1, 2), (2, 0), (3, 4), (4, 0)))
+>>> begin, turned = ((0, 1, 2, 3, 4, 5), 0), ((1, 0, 2, 3, 4, 5), 0)
+>>> comes(five, begin, ((5, 1, 2, 3, 4, 0), 1)), comes(five, begin, turned), bar_holds(five, begin, turned, ("ratio", (0, 1, 2, 4))), bar_holds(five, begin, turned, ("ratio", (0, 1, 2, 3)))
+(True, False, True, False)
+>>> comes((2, ((0, 1),)), ((0, 1, 2), 0), ((0, 1, 2), 0))
+raises Apart()
+
+>>> from swapstops.counting import come_at, come_count, come_number
+>>> ring, line, full = (3, ((0, 1), (1, 2), (2, 0))), (3, ((0, 1), (1, 0), (1, 2), (2, 1))), (3, ((0, 1), (1, 0), (1, 2), (2, 0)))
+>>> five, lone = (5, ((0, 1), (0, 3), (1, 2), (2, 0), (3, 4), (4, 0))), (1, ())
+>>> [come_count(net) for net in (lone, ring, line, full, five)]
+[1, 12, 36, 72, 600]
+>>> first = ((0, 1, 2, 3), 0)
+>>> [come_number(full, first, other) for other in (first, ((0, 1, 2, 3), 2), ((0, 1, 3, 2), 0), ((3, 2, 1, 0), 2))], come_at(full, first, 71)
+([0, 2, 3, 71], ((3, 2, 1, 0), 2))
+>>> [come_at(line, first, value) for value in (0, 1, 2, 3, 35)], come_number(line, first, ((0, 2, 3, 1), 2))
+([((0, 1, 2, 3), 0), ((0, 1, 2, 3), 2), ((0, 1, 3, 2), 1), ((0, 2, 1, 3), 1), ((3, 2, 1, 0), 2)], 5)
+>>> [come_at(ring, first, value) for value in (0, 1, 2, 11)], come_at(five, ((0, 1, 2, 3, 4, 5), 0), 0), come_at(lone, ((1, 0), 0), 0)
+([((0, 1, 2, 3), 0), ((0, 1, 3, 2), 2), ((0, 2, 3, 1), 1), ((3, 1, 2, 0), 1)], ((0, 1, 2, 3, 4, 5), 0), ((1, 0), 0))
+>>> come_number(line, first, ((0, 1, 3, 2), 0))
+raises Unfit()
+>>> come_at(ring, first, 12)
+raises Unfit()
+>>> come_at(ring, first, True)
+raises Unfit()
+
+>>> from swapstops.journeys import journey_done, journey_error
+>>> from swapstops.leading import journey_to
+>>> two, ring, both = (2, ((0, 1), (1, 0))), (3, ((0, 1), (1, 2), (2, 0))), (3, ((0, 1), (1, 0), (1, 2), (2, 0)))
+>>> one, other = ((0, 1, 2, 3), 0), ((3, 0, 1, 2), 0)
+>>> [journey_done(one, value) for value in ((((0, 1, 2, 0), 1),), (((0, 1, 2, 0), 2),), (((0, 1, 2, 0), 1), ((0, 1), 1)))]
+[((3, 0, 1, 2), 0), ((2, 3, 0, 1), 0), ((2, 0, 1, 3), 1)]
+>>> journey_error(both, journey_to(both, one, ((1, 0, 2, 3), 2))), journey_done(one, journey_to(both, one, ((1, 0, 2, 3), 2))), journey_done(one, journey_to(ring, one, other)) == other
+(None, ((1, 0, 2, 3), 2), True)
+>>> journey_to(two, ((0, 1, 2), 0), ((1, 0, 2), 0))
+raises Barred(('sign',))
+>>> journey_to((1, ()), ((0, 1), 0), ((1, 0), 0))
+raises Barred(('still',))
+>>> journey_to((2, ((0, 1),)), ((0, 1, 2), 0), ((0, 1, 2), 0))
+raises Apart()
+
+>>> from swapstops.waves import farthest, fewest_steps
+>>> two, ring, both = (2, ((0, 1), (1, 0))), (3, ((0, 1), (1, 2), (2, 0))), (3, ((0, 1), (1, 0), (1, 2), (2, 0)))
+>>> one = ((0, 1, 2, 3), 0)
+>>> [fewest_steps(ring, one, other) for other in (one, ((3, 0, 1, 2), 0), ((1, 0, 2, 3), 0), ((0, 1, 2, 3), 1))]
+[0, 3, None, None]
+>>> [fewest_steps(both, one, other) for other in (((3, 1, 2, 0), 1), ((3, 0, 1, 2), 0), ((0, 1, 2, 3), 2), ((0, 1, 3, 2), 0), ((1, 0, 2, 3), 0))]
+[1, 3, 6, 7, 11]
+>>> farthest(ring, one), farthest(both, one), farthest(two, ((0, 1, 2), 0)), farthest((1, ()), ((1, 0), 0)), farthest((2, ((0, 1),)), ((0, 1, 2), 0))
+((11, ((0, 1, 3, 2), 2)), (15, ((1, 0, 2, 3), 2)), (5, ((0, 2, 1), 1)), (0, ((1, 0), 0)), (1, ((2, 1, 0), 1)))
+
+>>> from swapstops.ways import can_come, entries, journey_through
+>>> gate, first = (3, ((0, 1), (1, 0), (1, 2))), ((0, 1, 2, 3), 0)
+>>> entries(gate, first, ((3, 0, 2, 1), 2)), entries(gate, first, ((0, 3, 2, 1), 2)), entries(gate, first, ((0, 1, 2, 3), 2))
+(((0, 3, 0), (2, 1, 1)), ((0, 3, 0),), ((0, 3, 0), (2, 3, 0)))
+>>> fork, begin = (4, ((0, 1), (0, 2), (1, 3), (2, 3))), ((0, 1, 2, 3, 4), 0)
+>>> entries(fork, begin, ((4, 0, 2, 3, 1), 3)), entries(fork, begin, ((4, 0, 1, 3, 2), 3))
+(((0, 4, 0), (1, 0, 1), (2, 0, 1), (3, 1, 2)), ((0, 4, 0), (1, 0, 1), (2, 0, 1), (3, 1, 2)))
+
+>>> [can_come(gate, first, other) for other in (((3, 0, 2, 1), 2), ((0, 3, 2, 1), 2), ((0, 1, 2, 3), 2), ((0, 1, 3, 2), 2), ((3, 1, 2, 0), 1), first)]
+[True, False, True, False, True, True]
+>>> [can_come(fork, begin, other) for other in (((4, 0, 2, 3, 1), 3), ((4, 1, 0, 3, 2), 3), ((4, 0, 1, 3, 2), 3), ((4, 0, 2, 3, 1), 1))]
+[True, True, False, False]
+
+>>> from swapstops.journeys import journey_done, journey_error
+>>> [journey_done(first, journey_through(gate, first, other)) == other for other in (((3, 0, 2, 1), 2), ((0, 1, 2, 3), 2), ((3, 1, 2, 0), 1), first)]
+[True, True, True, True]
+>>> journey_error(fork, journey_through(fork, begin, ((4, 1, 0, 3, 2), 3))) is None
+True
+>>> journey_through(gate, first, ((0, 3, 2, 1), 2))
+raises NoWay(((0, 3, 0),))
+>>> journey_through(gate, first, ((0, 1, 3, 2), 2))
+raises NoWay(((0, 3, 0), (2, 3, 0)))
+
+>>> from swapstops.coming import comes
+>>> from swapstops.likeness import alike, parting
+>>> ring, back = (3, ((0, 1), (1, 2), (2, 0))), (3, ((0, 2), (1, 0), (2, 1)))
+>>> free, full, half = (3, ((0, 1), (1, 0), (1, 2), (2, 0))), (3, ((0, 1), (0, 2), (1, 0), (1, 2), (2, 0), (2, 1))), (3, ((0, 1), (1, 0), (1, 2), (2, 1)))
+>>> alike(free, full), alike(free, half), alike(free, ring), alike(ring, back), alike(ring, ring), parting(full, free)
+(True, False, False, False, True, None)
+>>> row, wheel, star = (4, ((0, 1), (1, 0), (1, 2), (2, 1), (2, 3), (3, 2))), (4, ((0, 1), (1, 0), (1, 2), (2, 3), (3, 0))), (4, ((0, 1), (0, 2), (0, 3), (1, 0), (2, 0), (3, 0)))
+>>> alike(row, wheel), alike(row, star)
+(True, False)
+>>> first, second = parting(half, free)
+>>> comes(half, first, second), comes(free, first, second)
+(False, True)
+>>> start, behind = ((0, 1, 2, 3), 0), ((3, 1, 2, 0), 1)
+>>> comes(ring, start, behind), comes(back, start, behind)
+(True, False)
+>>> alike(ring, row)
+raises Unfit()
+>>> alike(ring, (4, ()))
+raises Apart()
+
+>>> from swapstops.arrows import freeing, spare
+>>> square, four = (4, ((0, 1), (0, 3), (1, 0), (1, 2), (2, 1), (2, 3), (3, 0), (3, 2))), (4, ((0, 1), (1, 2), (2, 3), (3, 0)))
+>>> freeing(half) in ((0, 2), (2, 0)), freeing(four) in ((0, 2), (1, 3), (2, 0), (3, 1)), freeing(ring) in back[1]
+(True, True, True)
+>>> spare(full) == full[1], spare(free), spare(square) == square[1], spare(wheel), spare(ring), spare((1, ()))
+(True, (), True, (), (), ())
+>>> freeing(full)
+raises Unfit()
+>>> freeing((2, ((0, 1), (1, 0))))
+raises Unfit()
+
+>>> from swapstops.desks import Desk, desk_behind
+>>> ring, start = (3, ((0, 1), (1, 2), (2, 0))), ((0, 1, 2, 3), 0)
+>>> d = Desk(ring, start)
+>>> [d.step(1), d.standing, d.put((1, 0)), d.net, d.step(0), d.standing]
+[1, ((3, 1, 2, 0), 1), 2, (3, ((0, 1), (1, 0), (1, 2), (2, 0))), 3, ((3, 0, 2, 1), 0)]
+>>> [d.can(start), d.drop((1, 0)), d.can(start), d.undo(), d.can(start), d.at(1), d.version]
+[True, 4, False, 3, True, ((3, ((0, 1), (1, 2), (2, 0))), ((3, 1, 2, 0), 1)), 3]
+>>> [desk_behind(ring, start, d.log) == d, d.copy() == d, d == Desk(ring, start), d.log[:2], d.redo(), d.net == ring]
+[True, True, False, (('step', 1), ('put', (1, 0))), 4, True]
+>>> d.step(2)
+raises Unfit()
+>>> d.put((0, 1))
+raises Unfit()
+>>> d.at(True)
+raises NoVersion(True)
+>>> Desk((3, ((1, 0), (0, 1))), start)
+raises BadNet(('order', 1))
+>>> Desk(ring, ((0, 1, 1, 3), 0))
+raises BadStanding(('twice', 2))
+>>> desk_behind(ring, start, (("step", 1), ("step", 0)))
+raises BadLog(1)
 """
 
 

@@ -3,7 +3,7 @@
 import itertools
 import math
 
-from tests.drawn import called
+from tests.drawn import all_nets, called
 
 
 def step_by_step(row, run):
@@ -34,6 +34,16 @@ def turns_one_by_one(n, run):
     while row != first:
         row, many = step_by_step(row, run), many + 1
     return many
+
+
+def model_of_done(standing, journey):
+    """The standing behind a journey, each run done one by one, but whole turns left out."""
+    row, stop = standing
+    for run, times in journey:
+        for _ in range(times % turns_one_by_one(len(row) - 1, run)):
+            row = step_by_step(row, run)
+        stop = run[-1]
+    return (row, stop)
 
 
 def is_odd(moves):
@@ -90,3 +100,50 @@ def model_of_kind(net):
     if net in FIVES:
         return "five"
     return "half" if model_of_beat(net, 0) % 2 == 0 else "all"
+
+
+def standings_behind(net, standing):
+    """The standings to which a step leads from one."""
+    row, at = standing
+    return [(step_by_step(row, (at, w)), w) for v, w in net[1] if v == at]
+
+
+def model_of_fewest(net, one):
+    """Each standing to which one comes, and the fewest steps to it, by going through all of them."""
+    found, front, many = {one: 0}, [one], 0
+    while front:
+        many += 1
+        front = sorted({behind for standing in front for behind in standings_behind(net, standing)} - set(found))
+        found |= {standing: many for standing in front}
+    return found
+
+
+def all_standings(n):
+    """All standings of n stops, ascending."""
+    return sorted((row, stop) for row in itertools.permutations(range(n + 1)) for stop in range(n))
+
+
+def model_of_entries(net, one, other):
+    """All entries, by going through all standings to which one comes if each lot is left right."""
+    homes = {stop: lot for lot in model_of_lots(net) for stop in lot}
+    wrong = {lot for lot in homes.values() if any(one[0][stop] != other[0][stop] for stop in lot)}
+    seen, todo, found = {(one, 0)}, [(one, 0)], {(one[1], one[0][-1], 0)}
+    while todo:
+        standing, many = todo.pop()
+        home = homes[standing[1]]
+        for row, stop in standings_behind(net, standing):
+            count = many
+            if homes[stop] != home:
+                if any(row[cell] != other[0][cell] for cell in home):
+                    continue
+                count += home in wrong
+                found.add((stop, row[-1], count))
+            if ((row, stop), count) not in seen:
+                seen.add(((row, stop), count))
+                todo.append(((row, stop), count))
+    return tuple(sorted(found))
+
+
+def all_joined(n):
+    """All joined nets of n stops: few enough for n up to 4."""
+    return [net for net in all_nets(n) if len(model_of_lots(net)) == 1]

@@ -1,6 +1,7 @@
 """Values of all kinds, and what tells whether one is still as it was."""
 
 from swapstops import errors
+from swapstops.desks import Desk
 
 
 def nested(depth, kind):
@@ -23,7 +24,29 @@ def no_numbers():
         nested(20, tuple), nested(20, list), (0,) * 4000, [None] * 4000,
         errors.Unfit(), errors.Apart(), bad, errors.BadLog([1, {2: 3}]),
         (bad, bad), (0, bad), [bad], {"error": bad},
+        errors.Barred(("sign",)), errors.NoWay(((0, 3, 0),)), errors.NoVersion([1]),
+        a_desk(), (a_desk(), 1), [a_desk()],
     ]
+
+
+def returned_values():
+    """Values that the package returns, made anew."""
+    return [
+        (3, ((0, 1), (1, 2), (2, 0))), ((0, 1, 2, 3), 0), (0, 1, 2, 0), (((0, 1, 2, 0), 5), ((0, 1), 1)),
+        ((0, 1), (2,)), ((0, 1, 2, 4, 3, 5),) * 5, ("still",), ("sign",), ("next", 1), ("ratio", (0, 1, 2, 3)),
+        ((0, 3, 0), (2, 1, 1)), (((0, 1, 2, 3), 0), ((3, 1, 2, 0), 1)), ("order", 1), ("step", 1), ("put", (0, 1)),
+        (("step", 1), ("drop", (0, 1))), "ring", "3: 0>1 1>2 2>0",
+    ]
+
+
+def a_desk():
+    """A desk of which some edits stand, and one was taken back."""
+    desk = Desk((3, ((0, 1), (1, 2))), ((0, 1, 2, 3), 0))
+    desk.step(1)
+    desk.put((1, 0))
+    desk.drop((1, 2))
+    desk.undo()
+    return desk
 
 
 def integers():
@@ -41,6 +64,8 @@ def picture(value):
         return (type(value).__name__, tuple(picture(item) for item in value))
     if isinstance(value, dict):
         return ("dict", tuple((picture(key), picture(value[key])) for key in value))
+    if isinstance(value, Desk):
+        return ("Desk", picture((value.net, value.standing, value.version, value.log, vars(value))))
     if isinstance(value, Exception):
         return (type(value).__name__, picture(value.args), picture(vars(value)))
     return (type(value).__name__, value)

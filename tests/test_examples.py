@@ -29,5 +29,7 @@ class ExamplesTest(unittest.TestCase):
 
     def test_all_are_there(self):
         told = [line for line, what in told_examples() if what is not None]
-        self.assertEqual(len(told), 35)
+        self.assertEqual(len(told), 83)
         self.assertEqual(len([line for line in told if line.startswith("colours(")]), 3)
+        raised = [what for _, what in told_examples() if what is not None and what.startswith("raises ")]
+        self.assertEqual(len(raised), 29)

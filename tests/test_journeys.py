@@ -5,7 +5,7 @@ from swapstops.journeys import journey_done, journey_error, steps_of
 from swapstops.runs import turns
 from tests.calls import CallCase
 from tests.drawn import all_nets, all_runs, drawn_joined, drawn_row, drawn_run, full, ring, told_nets
-from tests.models import step_by_step, turns_one_by_one
+from tests.models import model_of_done, step_by_step, turns_one_by_one
 from tests.samples import any_values, integers, no_numbers, picture
 
 TRI = (3, ((0, 1), (1, 2), (2, 0)))
@@ -47,16 +47,6 @@ def drawn_journey(draw, net, many):
         legs.append((run, times if run[0] == run[-1] else 1))
         stop = run[-1]
     return tuple(legs)
-
-
-def model_of_done(standing, journey):
-    """The standing behind a journey, each run done one by one, but whole turns left out."""
-    row, stop = standing
-    for run, times in journey:
-        for _ in range(times % turns_one_by_one(len(row) - 1, run)):
-            row = step_by_step(row, run)
-        stop = run[-1]
-    return (row, stop)
 
 
 class JourneyErrorCase(CallCase):

@@ -21,6 +21,14 @@ INTERFACE = {
     "lots": ["lots", "onward", "beat", "colours"],
     "kinds": ["kind_of"],
     "names": ["names", "names_hold", "ratio"],
+    "coming": ["comes", "bar", "bar_holds"],
+    "counting": ["come_count", "come_number", "come_at"],
+    "leading": ["journey_to"],
+    "waves": ["fewest_steps", "farthest"],
+    "ways": ["entries", "can_come", "journey_through"],
+    "likeness": ["alike", "parting"],
+    "arrows": ["freeing", "spare"],
+    "desks": ["Desk", "desk_behind"],
 }
 
 ARGUMENTS = {
@@ -45,7 +53,32 @@ ARGUMENTS = {
     "names": ["net"],
     "names_hold": ["net", "value"],
     "ratio": ["net", "standing", "things"],
+    "comes": ["net", "one", "other"],
+    "bar": ["net", "one", "other"],
+    "bar_holds": ["net", "one", "other", "value"],
+    "come_count": ["net"],
+    "come_number": ["net", "one", "other"],
+    "come_at": ["net", "one", "value"],
+    "journey_to": ["net", "one", "other"],
+    "fewest_steps": ["net", "one", "other"],
+    "farthest": ["net", "one"],
+    "entries": ["net", "one", "other"],
+    "can_come": ["net", "one", "other"],
+    "journey_through": ["net", "one", "other"],
+    "alike": ["one", "other"],
+    "parting": ["one", "other"],
+    "freeing": ["net"],
+    "spare": ["net"],
+    "Desk": ["net", "standing"],
+    "desk_behind": ["net", "standing", "log"],
 }
+
+# The methods of a desk, each with its arguments; its properties.
+METHODS = {
+    "step": ["stop"], "put": ["arrow"], "drop": ["arrow"], "can": ["standing"], "undo": [], "redo": [],
+    "at": ["version"], "copy": [],
+}
+PROPERTIES = ["net", "standing", "version", "log"]
 
 
 def sources():
@@ -75,6 +108,21 @@ class InterfaceTest(unittest.TestCase):
                     self.assertEqual([argument.name for argument in arguments], ARGUMENTS[name])
                     self.assertEqual({argument.kind.name for argument in arguments}, {"POSITIONAL_OR_KEYWORD"})
                     self.assertEqual({argument.default for argument in arguments}, {inspect.Parameter.empty})
+
+
+    def test_methods_of_desks_are_their_own(self):
+        desk = importlib.import_module("swapstops.desks").Desk
+        for name, arguments in METHODS.items():
+            with self.subTest(name=name):
+                self.assertIn(name, vars(desk))
+                told = list(inspect.signature(vars(desk)[name]).parameters.values())[1:]
+                self.assertEqual([argument.name for argument in told], arguments)
+                self.assertLessEqual({argument.kind.name for argument in told}, {"POSITIONAL_OR_KEYWORD"})
+                self.assertLessEqual({argument.default for argument in told}, {inspect.Parameter.empty})
+        for name in PROPERTIES:
+            self.assertIsInstance(vars(desk)[name], property)
+            self.assertIsNone(vars(desk)[name].fset)
+        self.assertIn("__eq__", vars(desk))
 
 
 class RulesTest(unittest.TestCase):

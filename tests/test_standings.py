@@ -6,12 +6,8 @@ from swapstops.errors import SwapError, Unfit
 from swapstops.standings import standing_at, standing_error, standing_number
 from tests.calls import CallCase
 from tests.drawn import drawn_standing
+from tests.models import all_standings
 from tests.samples import any_values, integers, no_numbers, picture
-
-
-def all_standings(n):
-    """All standings of n stops, ascending."""
-    return sorted((row, stop) for row in itertools.permutations(range(n + 1)) for stop in range(n))
 
 
 def how_many(n):
